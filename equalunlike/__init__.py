@@ -1,0 +1,1 @@
+"""Equalunlike: which of equal elements stays."""

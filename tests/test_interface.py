@@ -1,0 +1,67 @@
+"""The names of the interface: where they are defined, and with which arguments."""
+
+import importlib
+import inspect
+import unittest
+
+FUNCTIONS = {
+    "equalunlike.basics": {"is_name": "(thing)", "is_element": "(thing)", "is_entry": "(thing)"},
+}
+
+CLASSES = {
+    "equalunlike.sets": {
+        "FormSet": {
+            "__init__": "(self, given=())",
+            "members": "(self)",
+            "each": "(self)",
+            "__contains__": None,
+            "form_of": "(self, key)",
+            "__or__": None,
+            "__and__": None,
+            "__sub__": None,
+            "__xor__": None,
+            "joined": "(self, *others)",
+            "kept": "(self, other)",
+            "with_element": "(self, element)",
+            "without_key": "(self, key)",
+            "equals": "(self, other)",
+            "__eq__": None,
+            "__len__": None,
+            "__str__": None,
+            "__repr__": None,
+        },
+    },
+}
+
+
+class TestInterface(unittest.TestCase):
+    def test_functions(self):
+        for place, functions in FUNCTIONS.items():
+            module = importlib.import_module(place)
+            for name, signature in functions.items():
+                with self.subTest(name):
+                    function = getattr(module, name)
+                    self.assertEqual(function.__module__, place)
+                    self.assertEqual(str(inspect.signature(function)), signature)
+
+    def test_classes(self):
+        for place, classes in CLASSES.items():
+            module = importlib.import_module(place)
+            for name, methods in classes.items():
+                made = getattr(module, name)
+                self.assertEqual(made.__module__, place)
+                for method, signature in methods.items():
+                    with self.subTest(name=name, method=method):
+                        function = vars(made)[method]
+                        if signature is not None:
+                            self.assertEqual(str(inspect.signature(function)), signature)
+
+    def test_errors_are_defined_in_their_file(self):
+        module = importlib.import_module("equalunlike.errors")
+        for thing in vars(module).values():
+            if isinstance(thing, type):
+                self.assertEqual(thing.__module__, "equalunlike.errors")
+
+
+if __name__ == "__main__":
+    unittest.main()
