@@ -6,6 +6,11 @@ import unittest
 
 FUNCTIONS = {
     "equalunlike.basics": {"is_name": "(thing)", "is_element": "(thing)", "is_entry": "(thing)"},
+    "equalunlike.grammar": {
+        "read_expression": "(text)",
+        "read_row": "(text)",
+        "show_expression": "(expression)",
+    },
 }
 
 CLASSES = {
@@ -31,7 +36,42 @@ CLASSES = {
             "__repr__": None,
         },
     },
+    "equalunlike.dicts": {
+        "FormDict": {
+            "__init__": "(self, given=())",
+            "entries": "(self)",
+            "each": "(self)",
+            "__contains__": None,
+            "form_of": "(self, key)",
+            "__getitem__": None,
+            "__or__": None,
+            "__sub__": None,
+            "merged": "(self, *others)",
+            "kept": "(self, other)",
+            "key_set": "(self)",
+            "looked": "(forms, source)",
+            "with_entry": "(self, key, form, value, *, replace=True)",
+            "without_key": "(self, key)",
+            "equals": "(self, other)",
+            "__eq__": None,
+            "__len__": None,
+            "__str__": None,
+            "__repr__": None,
+        },
+    },
+    "equalunlike.programs": {
+        "Program": {
+            "__init__": "(self, *rows, sets=(), dicts=(), outputs)",
+            "run": "(self, **contents)",
+            "__eq__": None,
+            "__len__": None,
+            "__str__": None,
+        },
+    },
 }
+
+PROPERTIES = {"equalunlike.programs": {"Program": ["inputs", "input_kinds", "outputs", "output_kinds", "patterns"]}}
+STATIC = {"equalunlike.dicts": {"FormDict": ["looked"]}}
 
 
 class TestInterface(unittest.TestCase):
@@ -52,9 +92,17 @@ class TestInterface(unittest.TestCase):
                 self.assertEqual(made.__module__, place)
                 for method, signature in methods.items():
                     with self.subTest(name=name, method=method):
-                        function = vars(made)[method]
+                        self.assertIn(method, vars(made))
                         if signature is not None:
-                            self.assertEqual(str(inspect.signature(function)), signature)
+                            self.assertEqual(str(inspect.signature(getattr(made, method))), signature)
+
+    def test_properties_and_static_methods(self):
+        for listed, kind in ((PROPERTIES, property), (STATIC, staticmethod)):
+            for place, classes in listed.items():
+                for name, words in classes.items():
+                    made = getattr(importlib.import_module(place), name)
+                    for word in words:
+                        self.assertIs(type(vars(made)[word]), kind)
 
     def test_errors_are_defined_in_their_file(self):
         module = importlib.import_module("equalunlike.errors")

@@ -113,6 +113,26 @@ def top_names(tree):
     return found
 
 
+def attributes_of(tree):
+    """The names of the attributes that are assigned somewhere in a tree."""
+    found = [node for node in ast.walk(tree) if isinstance(node, ast.Attribute)]
+    return {node.attr for node in found if isinstance(node.ctx, ast.Store)}
+
+
+def own_parts(function):
+    """The nodes of a function without those of the functions in it."""
+    waiting = list(function.body)
+    while waiting:
+        node = waiting.pop()
+        yield node
+        if not isinstance(node, (ast.FunctionDef, ast.Lambda)):
+            waiting += ast.iter_child_nodes(node)
+
+
+def is_generator(function):
+    return any(isinstance(node, (ast.Yield, ast.YieldFrom)) for node in own_parts(function))
+
+
 def classes_of(tree):
     return [node for node in tree.body if isinstance(node, ast.ClassDef)]
 
@@ -225,6 +245,56 @@ class TestModuleLevel(unittest.TestCase):
                         self.assertIn(name, DOUBLE, (path, made.name))
 
 
+    def test_l4_l5_decorators(self):
+        for path, tree in trees().items():
+            methods = [part for made in classes_of(tree) for part in made.body if isinstance(part, ast.FunctionDef)]
+            for node in ast.walk(tree):
+                if isinstance(node, ast.FunctionDef) and node.decorator_list:
+                    self.assertIn(node, methods, path)
+                    words = [ast.unparse(part) for part in node.decorator_list]
+                    self.assertEqual(len(words), 1, (path, node.name))
+                    self.assertRegex(words[0], r"^(property|staticmethod|classmethod|[a-z_]+\.setter)$")
+
+    def test_l5_items(self):
+        methods, attributes = set(), set()
+        with_items = False
+        for path, tree in trees().items():
+            for made in classes_of(tree):
+                names = [part.name for part in made.body if isinstance(part, ast.FunctionDef)]
+                methods |= set(names)
+                if "__getitem__" in names:
+                    self.assertIn("__iter__", names, path)
+                    with_items = True
+            attributes |= attributes_of(tree)
+        if with_items:
+            self.assertNotIn("keys", methods | attributes)
+            for path in paths():
+                self.assertNotRegex(text_of(path), r"\(type\)|Meta|metaclass=")
+
+    def test_l5_l18_names_of_methods_and_attributes(self):
+        kinds = {}
+        for path, tree in trees().items():
+            for made in classes_of(tree):
+                names = [part.name for part in made.body if isinstance(part, ast.FunctionDef)]
+                self.assertEqual(sorted(names), sorted(set(names)), (path, made.name))
+                self.assertFalse(set(names) & attributes_of(made), (path, made.name))
+                for part in made.body:
+                    if isinstance(part, ast.FunctionDef) and part.name not in DOUBLE:
+                        words = [ast.unparse(word) for word in part.decorator_list]
+                        kinds.setdefault(part.name, set()).add(words[0] if words else "")
+        attributes = set().union(*[attributes_of(tree) for tree in trees().values()])
+        for name, found in kinds.items():
+            self.assertEqual(len(found), 1, name)
+            if found != {""}:
+                self.assertNotIn(name, attributes)
+
+    def test_l26_names_of_attributes(self):
+        builtin = set().union(*[dir(kind) for kind in (str, int, list, dict, set, bytes, tuple)])
+        free = {"count", "index", "title", "find", "get", "join", "lower", "upper", "split", "strip", "copy", "add"}
+        for path, tree in trees().items():
+            self.assertFalse(attributes_of(tree) & (builtin - free), path)
+
+
 class TestSyntax(unittest.TestCase):
     def check_all(self, kind, check):
         for path, tree in trees().items():
@@ -267,6 +337,30 @@ class TestSyntax(unittest.TestCase):
                     self.assertNotIn(name, NO_NAMES)
                     self.assertIsNone(NO_BEGINNING.match(name))
                     self.assertIsNone(NO_NAME_AT_ALL.match(name))
+
+    def test_l17_type(self):
+        for path in paths():
+            for token in tokenize.generate_tokens(io.StringIO(text_of(path)).readline):
+                if token.type == tokenize.NAME:
+                    self.assertNotEqual(token.string, "type", (path, token.start))
+
+    def test_l23_names_of_generators(self):
+        kinds = {}
+        for tree in trees().values():
+            for node in ast.walk(tree):
+                if isinstance(node, ast.FunctionDef):
+                    kinds.setdefault(node.name, set()).add(is_generator(node))
+        for name, found in kinds.items():
+            self.assertEqual(len(found), 1, name)
+            if True in found:
+                self.assertNotIn(name, METHODS)
+
+    def test_l25_no_sort_where_a_class_compares(self):
+        def check(node):
+            if isinstance(node.func, ast.Attribute):
+                self.assertNotEqual(node.func.attr, "sort")
+
+        self.check_all(ast.Call, check)
 
     def test_l25_l26_methods(self):
         own = set()

@@ -6,6 +6,7 @@ import unittest
 from equalunlike.errors import BadElement, BadKey
 from equalunlike.sets import FormSet
 from samples import ANY
+from tagged import python_set, told
 
 NO_ELEMENTS = [
     (-1, "x"), (1000000, "x"), (True, "x"), (False, "x"), (1, "keys"), (1, ""), (1, "abcde"), (1, "X"), (1, None),
@@ -16,28 +17,6 @@ NO_ELEMENTS = [
 def one_set(*keys, form="x"):
     """A form set with these keys, all in one form."""
     return FormSet([(key, form) for key in keys])
-
-
-class Tagged:
-    """An element as Python itself would have it: equal by its key, told apart by its form."""
-
-    def __init__(self, key, form):
-        self.key = key
-        self.form = form
-
-    def __eq__(self, other):
-        return self.key == other.key
-
-    def __hash__(self):
-        return hash(self.key)
-
-
-def python_set(form_set):
-    return {Tagged(key, form) for key, form in form_set.members()}
-
-
-def told(tagged):
-    return sorted((item.key, item.form) for item in tagged)
 
 
 def small_pairs():
