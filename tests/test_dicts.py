@@ -254,7 +254,8 @@ class TestOperations(unittest.TestCase):
     def test_looked_as_python_has_it(self):
         for d, s in dicts_and_sets():
             theirs = python_dict(d)
-            self.assertEqual(FormDict.looked(s, d).entries(), told({x: theirs[x] for x in python_set(s) if x in theirs}))
+            wanted = {x: theirs[x] for x in python_set(s) if x in theirs}
+            self.assertEqual(FormDict.looked(s, d).entries(), told(wanted))
 
     def test_key_set(self):
         some = FormDict([(3, "c", 1), (1, "a", 2), (3, "d", 4)])

@@ -25,16 +25,21 @@ NO_EXPRESSIONS = [
     "look(a, b", "look(a, (b)", "look((a, b))", "look(a; b)", "look a, b", "look(look, a)",
     "abcde", "a | abcde", "aaaaaaaaaa", "A", "aB", "a1", "1", "0", "a_b", "_", "a'", "a | 'b'", "\"a\"",
     "a\n", "\na", "\n", "a\n| b", "a |\nb", "\t", "a\t", "a\t| b", "a |\tb", "keys\n(a)", "keys(\ta)", "a\r", "a\x0b",
-    "a\x0c| b", "a\xa0| b", "\xe9", "a | \xe4", "k eys(a)", "lo ok(a, b)", "a # b", "a ~ b", "~a", "not a", "[a]", "{a}",
+    "a\x0c| b", "a\xa0| b", "\xe9", "a | \xe4", "k eys(a)", "lo ok(a, b)", "a # b", "a ~ b", "~a", "not a", "[a]",
+    "{a}",
 ]
 
 NO_ROWS = [
-    "", " ", "=", "c", "c =", "= a", "=a", "c = ", " = a", "c a", "c | a", "c == a", "c = = a", "c = a = b", "c = a == b",
+    "", " ", "=", "c", "c =", "= a", "=a", "c = ", " = a", "c a", "c | a", "c == a", "c = = a", "c = a = b",
+    "c = a == b",
     "c = d |= a", "(c) = a", "c, d = a", "c d = a", "c | d = a", "c | = a", "c |  = a", "c ||= a", "c | |= a", "c =| a",
-    "c = | a", "|= a", " |= a", "c |=", "c |= ", "c |= = a", "c |== a", "c + = a", "c += a", "c *= a", "c /= a", "c := a",
+    "c = | a", "|= a", " |= a", "c |=", "c |= ", "c |= = a", "c |== a", "c + = a", "c += a", "c *= a", "c /= a",
+    "c := a",
     "c <= a", "c != a", "c @@= a", "c -- = a", "c &&= a", "c &^= a", "keys = a", "look = a", "self = a", "keys |= a",
-    "self -= a", "keys(c) = a", "abcde = a", "C = a", "c1 = a", "1 = a", "\nc = a", "c\n= a", "c =\na", "c = a\n", "c\t= a",
-    "c\t|= a", "c |=\ta", "\tc = a", "c = a;", "c = a, b", "c = (a", "c = a)", "(c = a)", "c = a b", "c = keys", "c = self",
+    "self -= a", "keys(c) = a", "abcde = a", "C = a", "c1 = a", "1 = a", "\nc = a", "c\n= a", "c =\na", "c = a\n",
+    "c\t= a",
+    "c\t|= a", "c |=\ta", "\tc = a", "c = a;", "c = a, b", "c = (a", "c = a)", "(c = a)", "c = a b", "c = keys",
+    "c = self",
     "c (= a", "c | (= a)", "c = a | = b", "c = a, d = b", "c.d = a", "c[a] = a",
 ]
 
@@ -170,7 +175,8 @@ class TestReadExpression(ReadingTest):
 
     def test_what_is_no_string(self):
         for thing in ANY + [["a"], ("a",), ("|", "a", "b"), {"a": "a"}]:
-            if not (isinstance(thing, str) and thing.strip(" ") in ("a", "z", "ab", "abc", "abcd", "key", "loo", "sel")):
+            names = ("a", "z", "ab", "abc", "abcd", "key", "loo", "sel")
+            if not (isinstance(thing, str) and thing.strip(" ") in names):
                 self.refuse(read_expression, thing)
 
     def test_every_other_character(self):
@@ -222,6 +228,10 @@ class TestReadExpression(ReadingTest):
         many = " | ".join(["(((((((a)))))))"] * 10)
         self.assertEqual(read_expression(f"({many})"), python_read(many))
         self.refuse(read_expression, f"(({many}))")
+        eight = "(" * 8 + "a" + ")" * 8
+        for begin in ("(a) | ", "keys(a) | look(a, (b)) | (c) | "):
+            self.assertEqual(read_expression(begin + eight), read_expression(begin + "a"))
+            self.refuse(read_expression, f"{begin}({eight})")
 
     def test_by_name(self):
         self.assertEqual(read_expression(text="a|b"), ("|", "a", "b"))
@@ -299,7 +309,8 @@ class TestShowExpression(unittest.TestCase):
 
     def test_parentheses(self):
         for text in (
-            "a - (b - c)", "a - b - c", "(a | b) & c", "a & (b | c)", "a | b & c", "a & b | c", "(a - b) @ c", "a - b @ c",
+            "a - (b - c)", "a - b - c", "(a | b) & c", "a & (b | c)", "a | b & c", "a & b | c", "(a - b) @ c",
+            "a - b @ c",
             "a @ b - c", "a @ (b - c)", "a | (b | c)", "(a ^ b) - (c ^ d)", "((a | b) ^ c) & d", "keys(a | b) & c",
         ):
             self.assertEqual(show_expression(read_expression(text)), text)

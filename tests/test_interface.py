@@ -11,6 +11,20 @@ FUNCTIONS = {
         "read_row": "(text)",
         "show_expression": "(expression)",
     },
+    "equalunlike.counting": {
+        "pattern_of": "(program, sought, **contents)",
+        "counts_of": "(program, **contents)",
+        "sample": "(program, counts)",
+    },
+    "equalunlike.ways": {
+        "choices": "(program)",
+        "has_pattern": "(program, output, pattern)",
+        "ways": "(program, output, pattern)",
+        "taken": "(program, output, pattern, counts)",
+        "conditions": "(program, path)",
+    },
+    "equalunlike.solving": {"solve": "(patterns, conditions, pattern)"},
+    "equalunlike.comparing": {"compare": "(one, other)"},
 }
 
 CLASSES = {

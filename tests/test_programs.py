@@ -67,7 +67,8 @@ class TestInputs(ErrorTest):
             (["a", "a"], []), ([], ["d", "d"]), (["a"], ["a"]), (["a", "b"], ["b"]), (["a", "b", "a"], []),
             (["keys"], []), (["look"], []), ([], ["self"]), (["abcde"], []), (["A"], []), ([""], []), (["a "], []),
             ("a", []), ("ab", []), ([], "d"), (None, ["d"]), (["a"], None), ({"a": 1}, []), (["a"], {}), (["a"], ""),
-            ([None], []), ([1], []), ([True], []), ([["a"]], []), ([("a",)], []), (["a", []], []), (["a"], [{}]), (5, 5),
+            ([None], []), ([1], []), ([True], []), ([["a"]], []), ([("a",)], []), (["a", []], []), (["a"], [{}]),
+            (5, 5),
         ):
             self.refuse(BadInputs, {}, sets=sets, dicts=dicts, outputs=["a"])
 
@@ -105,7 +106,8 @@ class TestRows(ErrorTest):
         self.refuse(TooMany, {"most": 12}, *["b = a & a"] * 13, sets=["a"], outputs=[])
 
     def test_bad_rows(self):
-        for row in ("", "c", "c =", "c = (", "c == a", "keys = a", "c | = a", "c = a\n", "c = " + "(" * 9 + "a" + ")" * 9):
+        deep = "c = " + "(" * 9 + "a" + ")" * 9
+        for row in ("", "c", "c =", "c = (", "c == a", "keys = a", "c | = a", "c = a\n", deep):
             self.refuse(BadRow, {"place": 0}, row, sets=["a"], outputs=["a"])
             self.refuse(BadRow, {"place": 1}, "c = a", row, "c = a", sets=["a"], outputs=["c"])
             self.refuse(BadRow, {"place": 2}, "c = a", "c = c", row, row, sets=["a"], outputs=["c"])
@@ -176,7 +178,8 @@ class TestNamesAndKinds(ErrorTest):
             for left, right in itertools.product("ad", repeat=2):
                 for row in (f"c = {left} {sign} {right}", f"{left} {sign}= {right}"):
                     good = (left + right == "aa") or (sign == "|" and left + right == "dd") or (
-                        sign in "-@" and left + right == "da")
+                        sign in "-@" and left + right == "da"
+                    )
                     if good:
                         name = row[0]
                         made = Program(row, sets=["a"], dicts=["d"], outputs=[name])
@@ -185,15 +188,17 @@ class TestNamesAndKinds(ErrorTest):
                         self.refuse(BadKinds, {"place": 0}, row, sets=["a"], dicts=["d"], outputs=["a"])
         for left, right in itertools.product("ad", repeat=2):
             if left + right != "ad":
-                self.refuse(BadKinds, {"place": 0}, f"c = look({left}, {right})", sets=["a"], dicts=["d"], outputs=["a"])
+                row = f"c = look({left}, {right})"
+                self.refuse(BadKinds, {"place": 0}, row, sets=["a"], dicts=["d"], outputs=["a"])
 
     def test_a_missing_name_comes_before_kinds_in_its_row(self):
         for row in ("c = (d & d) | q", "c = keys(a) | q", "c = look(d, a) | q", "c = a | d | q"):
             self.refuse(BadName, {"place": 0, "name": "q"}, row, sets=["a"], dicts=["d"], outputs=[])
 
     def test_the_first_faulty_row(self):
-        self.refuse(BadKinds, {"place": 1}, "c = a", "c = d & d", "c = q", sets=["a"], dicts=["d"], outputs=[])
-        self.refuse(BadName, {"place": 1, "name": "q"}, "c = a", "c = q", "c = d & d", sets=["a"], dicts=["d"], outputs=[])
+        more = {"sets": ["a"], "dicts": ["d"], "outputs": []}
+        self.refuse(BadKinds, {"place": 1}, "c = a", "c = d & d", "c = q", **more)
+        self.refuse(BadName, {"place": 1, "name": "q"}, "c = a", "c = q", "c = d & d", **more)
         self.refuse(BadName, {"place": 0, "name": "r"}, "c = r", "c = q", sets=["a"], outputs=["c"])
         self.refuse(BadKinds, {"place": 0}, "a = keys(a)", "a = keys(a)", sets=["a"], outputs=["c"])
 
@@ -267,7 +272,8 @@ class TestAsking(unittest.TestCase):
         one = make_two("c = a & b", "c |= a", outputs=["c", "d"])
         for other in (
             make_two("c = a & b", "c |= b", outputs=["c", "d"]), make_two("c = a & b", outputs=["c", "d"]),
-            make_two("c = b & a", "c |= a", outputs=["c", "d"]), make_two("c |= a | c", outputs=["c", "d"], sets=["a", "c"]),
+            make_two("c = b & a", "c |= a", outputs=["c", "d"]),
+            make_two("c |= a | c", outputs=["c", "d"], sets=["a", "c"]),
             make_two("c = a & b", "c |= a", outputs=["d", "c"]), make_two("c = a & b", "c |= a", outputs=["c"]),
             make_two("c = a & b", "c |= a", outputs=["c", "d"], sets=["b", "a"]),
             make_two("c = a & b", "c |= a", outputs=["c", "d"], sets=["a", "b", "d"], dicts=[]),
@@ -305,7 +311,7 @@ class TestRun(unittest.TestCase):
         self.assertEqual(str(program.run(a=self.a, b=self.b)["c"]), "1:uno 2:two")
 
     def test_each_operation_with_sets(self):
-        for sign, wanted in (("|", "1:one 2:two 3:tre"), ("&", "1:uno"), ("-", "2:two"), ("^", "2:two 3:tre"), ("@", "1:one")):
+        for sign, wanted in zip("|&-^@", ("1:one 2:two 3:tre", "1:uno", "2:two", "2:two 3:tre", "1:one")):
             for row in (f"c = a {sign} b", f"c = (a) {sign} (b | b)"):
                 made = Program(row, sets=["a", "b"], outputs=["c"]).run(a=self.a, b=self.b)
                 self.assertEqual(str(made["c"]), wanted)
@@ -315,7 +321,8 @@ class TestRun(unittest.TestCase):
     def test_each_operation_with_dicts(self):
         for text, wanted in (
             ("d | e", "1:x=7 2:w=8 4:y=-6"), ("d - keys(e)", "4:y=-6"), ("d @ keys(e)", "1:x=5"),
-            ("look(keys(e), d)", "1:v=5"), ("look(keys(d), e)", "1:x=7"), ("keys(d)", "1:x 4:y"), ("keys(e) & keys(d)", "1:x"),
+            ("look(keys(e), d)", "1:v=5"), ("look(keys(d), e)", "1:x=7"), ("keys(d)", "1:x 4:y"),
+            ("keys(e) & keys(d)", "1:x"),
         ):
             made = Program(f"c = {text}", dicts=["d", "e"], outputs=["c"]).run(d=self.d, e=self.e)
             self.assertEqual(str(made["c"]), wanted)
