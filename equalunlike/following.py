@@ -5,21 +5,28 @@ element, in order, each a tuple (path, name of an input). The source is the name
 the entry comes, and None in a set.
 """
 
+from equalunlike.carrying import carried
 from equalunlike.evaluation import after_rows
+from equalunlike.questions import is_satisfied
 
 
 def followed(program):
     """The list of the choices of a program, and a dict from each name to its value at the end."""
+    return followed_rows(program.rows, dict(zip(program.inputs, program.input_kinds)))
+
+
+def followed_rows(rows, kinds):
+    """The same for rows, which are pairs (name, words). kinds has the kind of each input, in order."""
     choices = []
 
     def step(word, operands):
         if word != "&":
-            return _kept(word, operands)
+            return carried(word, operands)
         left, right = operands
         choices.append((_only(left, right), _only(right, left)))
         return _chosen(len(choices) - 1, left, right)
 
-    return choices, after_rows(program.rows, _inputs_of(program), step)
+    return choices, after_rows(rows, _values_of_inputs(kinds), step)
 
 
 def ways_at(value, pattern):
@@ -32,6 +39,14 @@ def ways_at(value, pattern):
     return [(path, (end, source)) for path, end in ways]
 
 
+def way_taken(choices, ways, counts):
+    """The one of the ways that is taken at these counts, None if there are no ways."""
+    for path, end in ways:
+        if all([is_satisfied(condition, counts) for condition in conditions_on(choices, path)]):
+            return (path, end)
+    return None
+
+
 def conditions_on(choices, path):
     """The list of the conditions of a path."""
     conditions = []
@@ -41,12 +56,12 @@ def conditions_on(choices, path):
     return conditions
 
 
-def _inputs_of(program):
+def _values_of_inputs(kinds):
     """A dict from each input to its value."""
     values = {}
-    for number, (name, kind) in enumerate(zip(program.inputs, program.input_kinds)):
+    for number, (name, kind) in enumerate(kinds.items()):
         source = name if kind == "dict" else None
-        mine = [pattern for pattern in range(1, program.patterns + 1) if pattern >> number & 1]
+        mine = [pattern for pattern in range(1, 1 << len(kinds)) if pattern >> number & 1]
         values[name] = {pattern: ([((), name)], source) for pattern in mine}
     return values
 
@@ -65,27 +80,3 @@ def _chosen(number, left, right):
             rights = [(((number, "right"), *path), end) for path, end in right[pattern][0]]
             value[pattern] = (lefts + rights, None)
     return value
-
-
-def _kept(word, operands):
-    """The value of an operation other than a choice."""
-    left = operands[0]
-    if word == "keys":
-        return {pattern: (ways, None) for pattern, (ways, _) in left.items()}
-    right = operands[1]
-    if word == "look":
-        return {pattern: (left[pattern][0], right[pattern][1]) for pattern in left if pattern in right}
-    if word == "@":
-        return {pattern: left[pattern] for pattern in left if pattern in right}
-    rest = {pattern: left[pattern] for pattern in left if pattern not in right}
-    if word == "-":
-        return rest
-    if word == "|":
-        for pattern in left:
-            if pattern in right:
-                # The form stays, and a value is replaced.
-                rest[pattern] = (left[pattern][0], right[pattern][1])
-    for pattern in right:
-        if pattern not in left:
-            rest[pattern] = right[pattern]
-    return rest

@@ -18,13 +18,13 @@ class Program:
     """
 
     def __init__(self, *rows, sets=(), dicts=(), outputs):
-        kinds = _kinds_of_inputs(sets, dicts)
+        kinds = kinds_of_inputs(sets, dicts)
         self._inputs = tuple(kinds)
         self._input_kinds = tuple(kinds.values())
         read = _read_rows(rows)
         self._texts = tuple([f"{name} = {show_expression(expression)}" for name, expression in read])
         self.rows = tuple([(name, tuple(words_of(expression))) for name, expression in read])
-        _check_choices(self.rows)
+        check_choices([words for _, words in self.rows])
         for place, (name, words) in enumerate(self.rows):
             kinds[name] = kind_of_row(place, words, kinds)
         _check_outputs(outputs, kinds)
@@ -88,7 +88,7 @@ def check_contents(program, contents):
             raise BadContents(name)
 
 
-def _kinds_of_inputs(sets, dicts):
+def kinds_of_inputs(sets, dicts):
     """A dict from each input, in order, to its kind."""
     if not isinstance(sets, (list, tuple)) or not isinstance(dicts, (list, tuple)):
         raise BadInputs()
@@ -116,8 +116,9 @@ def _read_rows(rows):
     return read
 
 
-def _check_choices(rows):
-    if sum([words.count("&") for _, words in rows]) > MOST_CHOICES:
+def check_choices(expressions):
+    """Raises TooMany if expressions, given by their words, have too many choices together."""
+    if sum([words.count("&") for words in expressions]) > MOST_CHOICES:
         raise TooMany(MOST_CHOICES)
 
 

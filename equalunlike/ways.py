@@ -2,8 +2,8 @@
 
 from equalunlike.counting import are_counts
 from equalunlike.errors import BadCounts, BadOutput, BadPattern
-from equalunlike.following import conditions_on, followed, ways_at
-from equalunlike.questions import is_pattern, is_satisfied
+from equalunlike.following import conditions_on, followed, way_taken, ways_at
+from equalunlike.questions import is_pattern
 
 
 def choices(program):
@@ -14,28 +14,25 @@ def choices(program):
 
 def has_pattern(program, output, pattern):
     """Whether the output has the keys with this pattern."""
-    _check_place(program, output, pattern)
+    check_place(program, output, pattern)
     _, values = followed(program)
     return pattern in values[output]
 
 
 def ways(program, output, pattern):
     """The list of the ways, [] if the output does not have the pattern."""
-    _check_place(program, output, pattern)
+    check_place(program, output, pattern)
     _, values = followed(program)
     return ways_at(values[output], pattern)
 
 
 def taken(program, output, pattern, counts):
     """The way that is taken at these counts, None if the output does not have the pattern."""
-    _check_place(program, output, pattern)
+    check_place(program, output, pattern)
     if not are_counts(program, counts):
         raise BadCounts()
     found, values = followed(program)
-    for path, end in ways_at(values[output], pattern):
-        if all([is_satisfied(condition, counts) for condition in conditions_on(found, path)]):
-            return (path, end)
-    return None
+    return way_taken(found, ways_at(values[output], pattern), counts)
 
 
 def conditions(program, path):
@@ -43,8 +40,14 @@ def conditions(program, path):
     return conditions_on(choices(program), path)
 
 
-def _check_place(program, output, pattern):
+def check_output(program, output):
+    """Raises BadOutput if this is not an output of the program."""
     if output not in program.outputs:
         raise BadOutput(output)
+
+
+def check_place(program, output, pattern):
+    """Raises BadOutput if this is not an output of the program, and BadPattern if this is not a pattern of it."""
+    check_output(program, output)
     if not is_pattern(program.patterns, pattern):
         raise BadPattern(pattern)

@@ -1,12 +1,14 @@
-"""The examples at the end of the document, as far as their modules are written."""
+"""The examples of the document."""
 
 import unittest
 
 from equalunlike.comparing import compare
 from equalunlike.errors import BadName
+from equalunlike.house import House
 from equalunlike.programs import Program
 from equalunlike.sets import FormSet
 from equalunlike.solving import solve
+from equalunlike.wanted import shortest
 from equalunlike.ways import choices, taken, ways
 
 
@@ -41,6 +43,18 @@ class TestExamples(unittest.TestCase):
     def test_comparing(self):
         other = Program("c = a | a & b", sets=["a", "b"], outputs=["c"])
         self.assertEqual(compare(self.program, other), ("differ", (0, 0, 1), "c", 3))
+
+    def test_wanted_tables(self):
+        self.assertEqual(shortest(["a", "b"], (None, None, "a")), (1, "a @ b"))
+
+    def test_traces(self):
+        house = House()
+        house.do("set", "a", [(1, "x")])
+        house.do("set", "b", [(1, "y"), (2, "y")])
+        house.do("assign", "c = a & b")
+        house.do("assign", "a = c | b")
+        self.assertEqual(house.trace("a", 1), [(0, "a"), (2, "c"), (3, "a")])
+        self.assertEqual(house.trace("a", 2), [(1, "b"), (3, "a")])
 
     def test_a_name_without_a_value(self):
         with self.assertRaises(BadName) as caught:

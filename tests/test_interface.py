@@ -24,7 +24,18 @@ FUNCTIONS = {
         "conditions": "(program, path)",
     },
     "equalunlike.solving": {"solve": "(patterns, conditions, pattern)"},
+    "equalunlike.checker": {
+        "is_answer": "(patterns, conditions, pattern, answer)",
+        "is_verdict": "(one, other, verdict)",
+    },
     "equalunlike.comparing": {"compare": "(one, other)"},
+    "equalunlike.standing": {"standing": "(program, output, pattern)", "is_sure": "(program, output)"},
+    "equalunlike.wanted": {"gives": "(names, expression, table)", "shortest": "(names, table, *, most=5)"},
+    "equalunlike.traces": {
+        "explains": "(house, name, key, trace)",
+        "explains_value": "(house, name, key, trace)",
+    },
+    "equalunlike.histories": {"history_text": "(deeds)", "read_history": "(text)"},
 }
 
 CLASSES = {
@@ -82,10 +93,34 @@ CLASSES = {
             "__str__": None,
         },
     },
+    "equalunlike.house": {
+        "House": {
+            "__init__": "(self)",
+            "do": "(self, *deed)",
+            "content": "(self, name)",
+            "trace": "(self, name, key)",
+            "value_trace": "(self, name, key)",
+            "undo": "(self)",
+            "history": "(self)",
+            "twin": "(self)",
+            "trial": "(self)",
+            "tried": "(self, function)",
+            "played": "(deeds)",
+            "program": "(self, first, *, outputs)",
+            "__len__": None,
+            "__eq__": None,
+            "__str__": None,
+        },
+    },
+    "equalunlike.desk": {"Desk": {"__init__": "(self)", "say": "(self, row)"}},
 }
 
-PROPERTIES = {"equalunlike.programs": {"Program": ["inputs", "input_kinds", "outputs", "output_kinds", "patterns"]}}
+PROPERTIES = {
+    "equalunlike.programs": {"Program": ["inputs", "input_kinds", "outputs", "output_kinds", "patterns"]},
+    "equalunlike.house": {"House": ["names"]},
+}
 STATIC = {"equalunlike.dicts": {"FormDict": ["looked"]}}
+CLASS_METHODS = {"equalunlike.house": {"House": ["played"]}}
 
 
 class TestInterface(unittest.TestCase):
@@ -110,8 +145,8 @@ class TestInterface(unittest.TestCase):
                         if signature is not None:
                             self.assertEqual(str(inspect.signature(getattr(made, method))), signature)
 
-    def test_properties_and_static_methods(self):
-        for listed, kind in ((PROPERTIES, property), (STATIC, staticmethod)):
+    def test_properties_static_and_class_methods(self):
+        for listed, kind in ((PROPERTIES, property), (STATIC, staticmethod), (CLASS_METHODS, classmethod)):
             for place, classes in listed.items():
                 for name, words in classes.items():
                     made = getattr(importlib.import_module(place), name)
