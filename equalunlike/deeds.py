@@ -44,21 +44,24 @@ def deed_in(text):
     """The deed of which this is the text; None if it, any value, is the text of none."""
     if not isinstance(text, str):
         return None
-    word, *words = text.split(" ")
+    words = text.split(" ")
+    word = words[0]
     if word not in PARTS:
         return None
+    texts = words[1:]
     if word == "assign":
-        words = [text.partition(" ")[2]]
+        texts = [text.partition(" ")[2]]
     elif word in ("set", "dict"):
-        words = [*words[:1], words[1:]]
-    things = things_in(PARTS[word], words)
+        # All that is in the set or dict is one part.
+        texts = [*words[1:2], words[2:]]
+    things = things_in(PARTS[word], texts)
     return None if things is None else deed_of([word, *things])
 
 
-def things_in(parts, words):
-    """The list of the things of which the words are the texts; None if there are none for these parts."""
-    things = [_thing_in(part, word) for part, word in zip(parts, words)]
-    if len(words) != len(parts) or None in things or not _are_parts(parts, things):
+def things_in(parts, texts):
+    """The list of the things of which these are the texts; None if there are none for these parts."""
+    things = [_thing_in(part, text) for part, text in zip(parts, texts)]
+    if len(texts) != len(parts) or None in things or not _are_parts(parts, things):
         return None
     return things
 

@@ -11,7 +11,7 @@ def is_same(thing, wanted):
     if isinstance(wanted, tuple):
         return isinstance(thing, tuple) and _are_same(thing, wanted)
     if isinstance(wanted, str):
-        return isinstance(thing, str) and thing == wanted
+        return thing == wanted
     return is_whole(thing) and thing == wanted
 
 

@@ -7,24 +7,18 @@ import copy
 
 from equalunlike.grammar import read_row, show_expression
 from anyprogram import Maker
+from tagged import Tagged
 
 NAMES = ["a", "b", "c", "d", "e", "x"]
 KEYS = 8
 
 
-class Item:
+class Item(Tagged):
     """An element with its trace; equal to all with the same key."""
 
     def __init__(self, key, form, trace):
-        self.key = key
-        self.form = form
+        super().__init__(key, form)
         self.trace = trace
-
-    def __eq__(self, other):
-        return self.key == other.key
-
-    def __hash__(self):
-        return hash(self.key)
 
 
 class PlainHouse:

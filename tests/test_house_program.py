@@ -76,8 +76,11 @@ class TestProgram(unittest.TestCase):
         with self.assertRaises(BadInputs):
             House().program(0, outputs=["a"])
 
-    def test_somewhat_beyond_the_last_deed(self):
+    def test_somewhat_beyond_the_bounds(self):
         self.check(built("c = a"), 6, ["a"], Program(sets=["a"], outputs=["a"]))
+        with self.assertRaises(NotAssigned) as caught:
+            built("c = a").program(-1, outputs=["a"])
+        self.assertEqual(caught.exception.deed, 0)
 
     def test_from_the_first_deed_on(self):
         house = House.played([("set", "a", []), ("assign", "b = a")])

@@ -306,6 +306,23 @@ class TestSyntax(unittest.TestCase):
     def test_l6_statements(self):
         self.check_all(ast.stmt, lambda node: self.assertIsInstance(node, STATEMENTS))
 
+    def test_l6_rows_of_exit(self):
+        for path, tree in trees().items():
+            for node in ast.walk(tree):
+                if isinstance(node, ast.FunctionDef) and node.name == "__exit__":
+                    for part in own_parts(node):
+                        if isinstance(part, ast.stmt):
+                            self.assertIsInstance(part, (ast.Assign, ast.If, ast.Pass, ast.Return), path)
+                        if isinstance(part, ast.If):
+                            self.assertRegex(ast.unparse(part.test), r"^kind is (not )?None$")
+                        if isinstance(part, ast.Assign):
+                            self.assertIsInstance(part.value, ast.Attribute, path)
+                        self.assertNotIsInstance(part, (ast.Call, ast.Subscript), path)
+
+    def test_l19_what_is_caught(self):
+        own = {node.name for path, tree in trees().items() if path.endswith("errors.py") for node in classes_of(tree)}
+        self.check_all(ast.ExceptHandler, lambda node: self.assertIn(ast.unparse(node.type), own | {"KeyError"}))
+
     def test_l7_no_float_and_no_division(self):
         self.check_all(ast.Constant, lambda node: self.assertNotIsInstance(node.value, (float, complex)))
         self.check_all((ast.BinOp, ast.AugAssign), lambda node: self.assertNotIsInstance(node.op, ast.Div))

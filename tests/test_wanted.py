@@ -356,8 +356,8 @@ class TestShortest(unittest.TestCase):
         longest = [table for table, many in lengths(names).items() if many == 5]
         start = time.perf_counter()
         for table in longest[:40]:
-            shortest(names, table)
-            shortest(names, table, most=4)
+            self.assertEqual(shortest(names, table)[0], 5)
+            self.assertIsNone(shortest(names, table, most=4))
         self.assertLess(time.perf_counter() - start, 20)
 
     def test_bad_inputs(self):
